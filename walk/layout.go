@@ -1,0 +1,17 @@
+package walk
+
+import "riddle/api"
+
+// Layout is how a multilink header lies in its bytes: which bits say what, and which must be 0.
+type Layout struct {
+	Size                  int
+	Begin, End, Zero, Seq uint32
+}
+
+// LayoutOf tells the layout of the headers of a link with multilink.
+func LayoutOf(mp int) Layout {
+	if mp == api.MultiShort {
+		return Layout{Size: 2, Begin: 1 << 15, End: 1 << 14, Zero: 3 << 12, Seq: 1<<12 - 1}
+	}
+	return Layout{Size: 4, Begin: 1 << 31, End: 1 << 30, Zero: 63 << 24, Seq: 1<<24 - 1}
+}

@@ -8,13 +8,13 @@ import (
 	"riddle/word"
 )
 
-// allStations is the one address and control that there is.
-const allStations = 0xff03
+// AllStations is the one address and control that there is.
+const AllStations = 0xff03
 
 // Sizes of the headers of IP and IP6 that are there in any case.
 const (
-	sizeIP  = 20
-	sizeIP6 = 40
+	SizeIP  = 20
+	SizeIP6 = 40
 )
 
 // Walk is what a reader of a frame has found so far; its At is the place reached.
@@ -40,7 +40,7 @@ func (w *Walk) Length() {
 func (w *Walk) Address() {
 	field, ok := word.Get(w.frame, 0, 2)
 	switch {
-	case field == allStations:
+	case field == AllStations:
 		w.At += 2
 	case w.link.ACFC:
 	case !ok:
@@ -96,9 +96,9 @@ func (w *Walk) Network() {
 }
 
 func (w *Walk) ip() {
-	w.need(sizeIP)
+	w.need(SizeIP)
 	version, words := w.halves()
-	if version != 4 || 4*words < sizeIP {
+	if version != 4 || 4*words < SizeIP {
 		panic(api.ErrFrameIP)
 	}
 	w.need(4 * words)
@@ -109,11 +109,11 @@ func (w *Walk) ip() {
 }
 
 func (w *Walk) ip6() {
-	w.need(sizeIP6)
+	w.need(SizeIP6)
 	if version, _ := w.halves(); version != 6 {
 		panic(api.ErrFrameIP)
 	}
-	w.Net, w.Next, w.Load = 6, int(w.read(6, 1)), w.At+sizeIP6
+	w.Net, w.Next, w.Load = 6, int(w.read(6, 1)), w.At+SizeIP6
 }
 
 // halves tells the two halves of the byte at the place reached.

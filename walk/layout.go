@@ -1,6 +1,9 @@
 package walk
 
-import "riddle/api"
+import (
+	"riddle/api"
+	"riddle/word"
+)
 
 // Layout is how a multilink header lies in its bytes: which bits say what, and which must be 0.
 type Layout struct {
@@ -14,4 +17,17 @@ func LayoutOf(mp int) Layout {
 		return Layout{Size: 2, Begin: 1 << 15, End: 1 << 14, Zero: 3 << 12, Seq: 1<<12 - 1}
 	}
 	return Layout{Size: 4, Begin: 1 << 31, End: 1 << 30, Zero: 63 << 24, Seq: 1<<24 - 1}
+}
+
+// Header tells a header's bytes.
+func (lies Layout) Header(begin, end bool, seq uint32) []byte {
+	header := seq
+	if begin {
+		header |= lies.Begin
+	}
+	if end {
+		header |= lies.End
+	}
+	b, _ := word.Put(make([]byte, lies.Size), 0, lies.Size, header)
+	return b
 }

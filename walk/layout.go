@@ -31,3 +31,16 @@ func (lies Layout) Header(begin, end bool, seq uint32) []byte {
 	b, _ := word.Put(make([]byte, lies.Size), 0, lies.Size, header)
 	return b
 }
+
+// Ends is where the addresses lie in a header of IP or IP6, from its beginning on, and how many bytes each has.
+type Ends struct {
+	Src, Dst, Size int
+}
+
+// EndsOf tells the ends of api.OfIP or api.OfIP6.
+func EndsOf(of int) Ends {
+	if of == api.OfIP {
+		return Ends{Src: 12, Dst: 16, Size: 4}
+	}
+	return Ends{Src: 8, Dst: 24, Size: 16}
+}

@@ -140,7 +140,7 @@ func shortest(g []api.Block) int {
 	}
 }
 
-// TestGraphsByChance has graphs of all shapes, near and far; none is longer than it must be where its blocks stand in their order.
+// TestGraphsByChance has graphs of all shapes, near and far; none is longer than it must be where blocks stand in their order, and each has its own Ja.
 func TestGraphsByChance(t *testing.T) {
 	t.Parallel()
 	m := newMaker(18)
